@@ -6,11 +6,14 @@ import (
 	"haul/span"
 )
 
-// Proxy stands between clients and mirrors.
+// Proxy stands between clients and mirrors. A mirror that is not busy has the errand of noughts; that is an
+// errand too, so busy has to tell.
 type Proxy struct {
 	settings  api.Settings
 	latest    [api.Paths]version
 	transfers []transfer
+	busy      [api.MaxMirrors]bool
+	errands   [api.MaxMirrors]errand
 }
 
 // New makes a proxy (P3).
@@ -47,7 +50,7 @@ func (p *Proxy) Ask(path int, ranges string) (int, api.Errno) {
 		return 0, api.ErrFull
 	}
 	t := transfer{path: path, ranges: span.Read(ranges)}
-	if p.latest[path].tag != 0 {
+	if !p.latest[path].isNone() {
 		t.bind(p.latest[path])
 	}
 	p.transfers = append(p.transfers, t)
@@ -55,13 +58,41 @@ func (p *Proxy) Ask(path int, ranges string) (int, api.Errno) {
 }
 
 // Next sends a mirror on an errand (P8).
-func (p *Proxy) Next(mirror int) (api.Fetch, bool, api.Errno) { return api.Fetch{}, false, api.OK }
+func (p *Proxy) Next(mirror int) (api.Fetch, bool, api.Errno) {
+	if !p.hasMirror(mirror) {
+		return api.Fetch{}, false, api.ErrMirror
+	}
+	if p.busy[mirror] {
+		return api.Fetch{}, false, api.ErrBusy
+	}
+	e, found := p.nextErrand()
+	if !found {
+		return api.Fetch{}, false, api.OK
+	}
+	p.busy[mirror] = true
+	p.errands[mirror] = e
+	return e.fetch(p.settings.Block), true, api.OK
+}
 
 // Reply hands over what a mirror answered (P9).
-func (p *Proxy) Reply(mirror int, r api.Reply) api.Errno { return api.OK }
+func (p *Proxy) Reply(mirror int, r api.Reply) api.Errno {
+	e, refusal := p.endErrand(mirror)
+	if refusal != api.OK {
+		return refusal
+	}
+	p.answered(e, r)
+	return api.OK
+}
 
 // Fail tells that a mirror does not answer (P9).
-func (p *Proxy) Fail(mirror int) api.Errno { return api.OK }
+func (p *Proxy) Fail(mirror int) api.Errno {
+	e, refusal := p.endErrand(mirror)
+	if refusal != api.OK {
+		return refusal
+	}
+	p.failed(e)
+	return api.OK
+}
 
 func (p *Proxy) hasTransfer(id int) bool {
 	return id >= 0 && id < len(p.transfers)
@@ -81,7 +112,7 @@ func (p *Proxy) Head(id int) (api.Head, api.Errno) {
 		return api.Head{}, api.ErrId
 	}
 	t := &p.transfers[id]
-	if !t.bound {
+	if t.isOpen() {
 		return api.Head{}, api.ErrOpen
 	}
 	t.shown = true
@@ -89,17 +120,30 @@ func (p *Proxy) Head(id int) (api.Head, api.Errno) {
 }
 
 // Take gives out a transfer's next bytes (P7).
-func (p *Proxy) Take(id int, n int) (string, api.Errno) { return "", api.OK }
+func (p *Proxy) Take(id int, n int) (string, api.Errno) {
+	if !p.hasTransfer(id) {
+		return "", api.ErrId
+	}
+	if n < 0 {
+		return "", api.ErrArg
+	}
+	t := &p.transfers[id]
+	if t.isOpen() {
+		return "", api.ErrOpen
+	}
+	t.shown = true
+	return t.take(n, p.settings), api.OK
+}
 
-// Held tells how many bytes a transfer holds (P5): none, as long as nothing is fetched.
+// Held tells how many bytes a transfer holds (P5).
 func (p *Proxy) Held(id int) (int, api.Errno) {
 	if !p.hasTransfer(id) {
 		return 0, api.ErrId
 	}
-	return 0, api.OK
+	return p.transfers[id].heldBytes(), api.OK
 }
 
-// Used tells how many bytes are in the cache (P10).
+// Used tells how many bytes are in the cache (P10): nothing goes into it yet.
 func (p *Proxy) Used() int { return 0 }
 
 // Entries lists what is in the cache (P10).

@@ -10,7 +10,11 @@ import (
 	"haul/api"
 )
 
-var plain = api.Settings{Mirrors: 2, Block: 4, Window: 2, Cache: 8, Tries: 2}
+// bare has no cache: what a transfer holds came in a reply, and is fetched again where it is wanted again.
+var (
+	plain = api.Settings{Mirrors: 2, Block: 4, Window: 2, Cache: 8, Tries: 2}
+	bare  = api.Settings{Mirrors: 2, Block: 4, Window: 2, Cache: 0, Tries: 2}
+)
 
 var (
 	noPaths = []int{-1, api.Paths, api.Paths + 1, math.MaxInt32, math.MinInt32, math.MaxInt, math.MinInt}
@@ -85,6 +89,9 @@ func checkOpen(t *testing.T, p *Proxy, id int) {
 	checkState(t, p, id, api.Open)
 	checkHeld(t, p, id, 0)
 	refuseHead(t, p, id, api.ErrOpen)
+	refuseTake(t, p, id, 0, api.ErrOpen)
+	refuseTake(t, p, id, 9, api.ErrOpen)
+	refuseTake(t, p, id, -1, api.ErrArg)
 }
 
 func refuseId(t *testing.T, p *Proxy, id int) {
@@ -97,6 +104,78 @@ func refuseId(t *testing.T, p *Proxy, id int) {
 		t.Errorf("Held(%d) = %d, %d, want 0, %d", id, n, e, api.ErrId)
 	}
 	refuseHead(t, p, id, api.ErrId)
+	refuseTake(t, p, id, 9, api.ErrId)
+	refuseTake(t, p, id, -1, api.ErrId)
+	same(t, p, before)
+}
+
+func anyOf(path, size int) api.Fetch {
+	return api.Fetch{Path: path, Len: size}
+}
+
+func next(t *testing.T, p *Proxy, mirror int, want api.Fetch) {
+	t.Helper()
+	if f, is, e := p.Next(mirror); f != want || !is || e != api.OK {
+		t.Fatalf("Next(%d) = %+v, %v, %d, want %+v", mirror, f, is, e, want)
+	}
+}
+
+func idle(t *testing.T, p *Proxy, mirror int) {
+	t.Helper()
+	refuseNext(t, p, mirror, api.OK)
+}
+
+func refuseNext(t *testing.T, p *Proxy, mirror int, want api.Errno) {
+	t.Helper()
+	before := copyOf(p)
+	if f, is, e := p.Next(mirror); f != (api.Fetch{}) || is || e != want {
+		t.Errorf("Next(%d) = %+v, %v, %d, want noughts, false, %d", mirror, f, is, e, want)
+	}
+	same(t, p, before)
+}
+
+func reply(t *testing.T, p *Proxy, mirror, tag, total, offset int, body string) {
+	t.Helper()
+	if e := p.Reply(mirror, api.Reply{Tag: tag, Total: total, Offset: offset, Body: body}); e != api.OK {
+		t.Fatalf("Reply(%d, %d of %d: %d, %q): %d", mirror, tag, total, offset, body, e)
+	}
+}
+
+func fail(t *testing.T, p *Proxy, mirror int) {
+	t.Helper()
+	if e := p.Fail(mirror); e != api.OK {
+		t.Fatalf("Fail(%d): %d", mirror, e)
+	}
+}
+
+// refuseEnd: replies of every sort and Fail are refused alike.
+func refuseEnd(t *testing.T, p *Proxy, mirror int, want api.Errno) {
+	t.Helper()
+	before := copyOf(p)
+	for _, r := range []api.Reply{{}, {Tag: 7, Total: 10, Body: "abcd"}, {Tag: 7, Total: 0}, {Tag: -1, Total: -1, Offset: -1, Body: "x"}} {
+		if e := p.Reply(mirror, r); e != want {
+			t.Errorf("Reply(%d, %+v): %d, want %d", mirror, r, e, want)
+		}
+	}
+	if e := p.Fail(mirror); e != want {
+		t.Errorf("Fail(%d): %d, want %d", mirror, e, want)
+	}
+	same(t, p, before)
+}
+
+func take(t *testing.T, p *Proxy, id, n int, want string) {
+	t.Helper()
+	if s, e := p.Take(id, n); s != want || e != api.OK {
+		t.Errorf("Take(%d, %d) = %q, %d, want %q", id, n, s, e, want)
+	}
+}
+
+func refuseTake(t *testing.T, p *Proxy, id, n int, want api.Errno) {
+	t.Helper()
+	before := copyOf(p)
+	if s, e := p.Take(id, n); s != "" || e != want {
+		t.Errorf("Take(%d, %d) = %q, %d, want nothing, %d", id, n, s, e, want)
+	}
 	same(t, p, before)
 }
 
@@ -156,6 +235,10 @@ func TestNewProxyIsEmpty(t *testing.T) {
 	if n, l := p.Used(), p.Entries(); n != 0 || len(l) != 0 {
 		t.Errorf("a new proxy has %d bytes in its cache, %v", n, l)
 	}
+	for mirror := range plain.Mirrors {
+		idle(t, p, mirror)
+		refuseEnd(t, p, mirror, api.ErrIdle)
+	}
 	for path := range api.Paths {
 		ask(t, p, path, "", path)
 		checkOpen(t, p, path)
@@ -214,11 +297,13 @@ func TestAskOfOddTexts(t *testing.T) {
 	}
 }
 
-// No call sets a latest version yet: the next tests lay it into the proxy.
 func TestAskBindsToTheLatestVersion(t *testing.T) {
-	p := start(t, plain)
-	ask(t, p, 1, "bytes=2-6", 0)
-	p.latest[1] = version{tag: 7, total: 10}
+	p := start(t, bare)
+	ask(t, p, 2, "", 0)
+	ask(t, p, 1, "bytes=2-6", 1)
+	next(t, p, 0, anyOf(2, 4))
+	next(t, p, 1, anyOf(1, 4))
+	reply(t, p, 1, 7, 10, 0, "abcd")
 	for i, c := range []struct {
 		ranges string
 		state  int
@@ -230,62 +315,44 @@ func TestAskBindsToTheLatestVersion(t *testing.T) {
 		{"bytes=10-", api.Done, api.Head{Status: 416, Tag: 7, Total: 10}},
 		{"bytes=6-2", api.Going, api.Head{Status: 200, Tag: 7, Total: 10, Len: 10}},
 	} {
-		ask(t, p, 1, c.ranges, i+1)
-		checkState(t, p, i+1, c.state)
-		checkHeld(t, p, i+1, 0)
-		checkHead(t, p, i+1, c.head)
-		checkHead(t, p, i+1, c.head)
-		checkState(t, p, i+1, c.state)
+		id := i + 2
+		ask(t, p, 1, c.ranges, id)
+		checkState(t, p, id, c.state)
+		checkHeld(t, p, id, 0)
+		checkHead(t, p, id, c.head)
+		checkHead(t, p, id, c.head)
+		checkState(t, p, id, c.state)
 	}
-	ask(t, p, 2, "", 6)
-	checkOpen(t, p, 6)
+	ask(t, p, 3, "", 7)
+	checkOpen(t, p, 7)
 	checkOpen(t, p, 0)
 }
 
 func TestAskBindsToAnEmptyLatestVersion(t *testing.T) {
-	p := start(t, plain)
-	p.latest[0] = version{tag: 1, total: 0}
+	p := start(t, bare)
 	ask(t, p, 0, "", 0)
-	checkState(t, p, 0, api.Done)
-	checkHead(t, p, 0, api.Head{Status: 200, Tag: 1})
+	next(t, p, 0, anyOf(0, 4))
+	reply(t, p, 0, 1, 0, 0, "")
+	ask(t, p, 0, "", 1)
+	checkState(t, p, 1, api.Done)
+	checkHead(t, p, 1, api.Head{Status: 200, Tag: 1})
 }
 
-// P5 and P6
-
-func TestOpenTransferStaysOpen(t *testing.T) {
-	p := start(t, plain)
-	ask(t, p, 1, "bytes=2-6", 0)
-	for range 3 {
-		checkOpen(t, p, 0)
-	}
-}
-
-func TestNumbersOfNoTransfer(t *testing.T) {
-	p := start(t, plain)
-	for _, id := range oddIds {
-		refuseId(t, p, id)
-	}
-	for id := range api.MaxTransfers {
-		ask(t, p, 0, "", id)
-	}
-	for _, id := range oddIds {
-		refuseId(t, p, id)
-	}
-}
-
-func TestHeadAloneShows(t *testing.T) {
-	p := start(t, plain)
-	p.latest[1] = version{tag: 7, total: 10}
-	ask(t, p, 1, "", 0)
-	checkState(t, p, 0, api.Going)
-	checkHeld(t, p, 0, 0)
-	if p.transfers[0].shown {
-		t.Error("a transfer is shown ahead of Head")
-	}
+// Not the first version, nor the one that most transfers have, but the latest.
+func TestAskBindsToALaterVersion(t *testing.T) {
+	p := start(t, bare)
+	ask(t, p, 0, "", 0)
+	next(t, p, 0, anyOf(0, 4))
+	reply(t, p, 0, 7, 10, 0, "abcd")
 	checkHead(t, p, 0, api.Head{Status: 200, Tag: 7, Total: 10, Len: 10})
-	if !p.transfers[0].shown {
-		t.Error("a transfer is not shown behind Head")
-	}
+	next(t, p, 0, api.Fetch{Tag: 7, Total: 10, Offset: 4, Len: 4})
+	reply(t, p, 0, 6, 5, 4, "E")
+	ask(t, p, 0, "", 1)
+	checkHead(t, p, 1, api.Head{Status: 200, Tag: 6, Total: 5, Len: 5})
+	next(t, p, 0, api.Fetch{Tag: 7, Total: 10, Offset: 4, Len: 4})
+	reply(t, p, 0, 7, 10, 4, "efgh")
+	ask(t, p, 0, "", 2) // an answer of the version asked for does not make it the latest again
+	checkHead(t, p, 2, api.Head{Status: 200, Tag: 6, Total: 5, Len: 5})
 }
 
 // P2
@@ -325,15 +392,25 @@ func TestSameCallsSameAnswers(t *testing.T) {
 
 // P1
 
-func TestOtherCallsEnd(t *testing.T) {
-	p := start(t, plain)
-	ask(t, p, 1, "", 0)
-	for _, n := range append([]int{0, 1, 2, 3}, oddIds...) {
-		p.Next(n)
-		p.Fail(n)
-		p.Take(n, n)
-		for _, text := range oddText {
-			p.Reply(n, api.Reply{Tag: n, Total: n, Offset: n, Body: text})
+func TestAllCallsEndAtOddNumbersAndTexts(t *testing.T) {
+	numbers := append([]int{0, 1, 2, 3, 4, 100, 1000}, oddIds...)
+	for _, s := range []api.Settings{bare, plain, {Mirrors: 1, Block: 1, Window: 1, Tries: 1}, {Mirrors: 3, Block: 16, Window: 4, Cache: 256, Tries: 4}} {
+		p := start(t, s)
+		ask(t, p, 1, "", 0)
+		for _, n := range numbers {
+			p.Fail(n)
+			for _, m := range numbers {
+				p.Take(n, m)
+				p.Next(0)
+				p.Reply(0, api.Reply{Tag: n, Total: m, Offset: n})
+				p.Next(0)
+				p.Reply(0, api.Reply{Tag: 7, Total: m, Offset: n, Body: "abcd"})
+			}
+			for _, text := range oddText {
+				p.Ask(n, text)
+				p.Next(n)
+				p.Reply(n, api.Reply{Tag: n, Total: n, Offset: n, Body: text})
+			}
 		}
 	}
 }
