@@ -17,6 +17,11 @@ func (e errand) fetch(size int) api.Fetch {
 	return f
 }
 
+// entry is how the cache names the errand's block.
+func (e errand) entry() api.Entry {
+	return api.Entry{Path: e.path, Tag: e.version.tag, Total: e.version.total, Block: e.block}
+}
+
 // sensible tests the version first: only of fair numbers can the block's length be told.
 func (e errand) sensible(r api.Reply, size int) bool {
 	v := version{tag: r.Tag, total: r.Total}
@@ -33,24 +38,11 @@ func (p *Proxy) hasMirror(m int) bool {
 // nextErrand finds the first block that is wanted and that no mirror was sent for.
 func (p *Proxy) nextErrand() (errand, bool) {
 	for i := 0; i < len(p.transfers); i++ {
-		e, found := p.errandOf(&p.transfers[i])
-		if found {
-			return e, true
-		}
-	}
-	return errand{}, false
-}
-
-func (p *Proxy) errandOf(t *transfer) (errand, bool) {
-	first, end := t.window(p.settings)
-	e := errand{path: t.path, version: t.version()}
-	for k := first; k < end; k++ {
-		e.block = k
-		if !t.wants(e, p.settings) {
-			continue
-		}
-		if !p.isSent(e) {
-			return e, true
+		wanted := p.transfers[i].wanted(p.settings)
+		for j := 0; j < len(wanted); j++ {
+			if !p.isSent(wanted[j]) {
+				return wanted[j], true
+			}
 		}
 	}
 	return errand{}, false
@@ -112,8 +104,8 @@ func (p *Proxy) renew(path int, v version) {
 	}
 }
 
-// deliver gives a block to all that want it. The bytes are copied, as the caller may have cut them out of a
-// longer text, all of which would be kept with them.
+// deliver gives a block to all that want it, and to the cache. The bytes are copied, as the caller may have cut
+// them out of a longer text, all of which would be kept with them.
 func (p *Proxy) deliver(e errand, body string) {
 	if body == "" {
 		return
@@ -125,4 +117,5 @@ func (p *Proxy) deliver(e errand, body string) {
 			p.transfers[i].failures = 0
 		}
 	}
+	p.cache.put(e.entry(), own)
 }

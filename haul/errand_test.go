@@ -642,52 +642,66 @@ func miss(t *testing.T, p *Proxy, mirror int, nonsense bool) {
 	fail(t, p, mirror)
 }
 
-// The calls of the document's examples, as far as they don't hang on the cache.
+// The calls of the document's examples.
 func TestExamples(t *testing.T) {
-	p := start(t, bare)
+	p := start(t, plain)
 	x := func(offset, count int) api.Fetch {
 		return api.Fetch{Path: 1, Tag: 7, Total: 10, Offset: offset, Len: count}
 	}
 	ask(t, p, 1, "bytes=2-6", 0)
 	checkState(t, p, 0, api.Open)
 	refuseHead(t, p, 0, api.ErrOpen)
+
 	next(t, p, 0, anyOf(1, 4))
 	refuseNext(t, p, 0, api.ErrBusy)
 	idle(t, p, 1)
+
 	reply(t, p, 0, 7, 10, 0, "abcd")
 	checkState(t, p, 0, api.Going)
+
 	take(t, p, 0, 9, "cd")
+	checkHead(t, p, 0, api.Head{Status: 206, Tag: 7, Total: 10, From: 2, Len: 5})
 	checkHeld(t, p, 0, 0)
+	checkCache(t, p, in(1, 7, 10, 0))
+
 	next(t, p, 1, x(4, 4))
 	reply(t, p, 1, 7, 10, 4, "efgh")
 	take(t, p, 0, 2, "ef")
 	take(t, p, 0, 2, "g")
-	checkState(t, p, 0, api.Done)
-	checkHead(t, p, 0, api.Head{Status: 206, Tag: 7, Total: 10, From: 2, Len: 5})
 
-	ask(t, p, 1, "bytes=-2", 1) // the example's range begins with a byte of the cache
+	checkState(t, p, 0, api.Done)
+	checkCache(t, p, in(1, 7, 10, 0, 1))
+
+	ask(t, p, 1, "bytes=-3", 1)
+	take(t, p, 1, 9, "h")
 	next(t, p, 0, x(8, 2))
+
 	reply(t, p, 0, 7, 10, 8, "i")
 	refuseEnd(t, p, 0, api.ErrIdle)
+
 	next(t, p, 0, x(8, 2))
 	reply(t, p, 0, 7, 10, 8, "ij")
+	checkCache(t, p, in(1, 7, 10, 1, 2))
 	take(t, p, 1, 9, "ij")
+
 	ask(t, p, 1, "bytes=10-", 2)
 	checkHead(t, p, 2, api.Head{Status: 416, Tag: 7, Total: 10})
+
 	ask(t, p, 1, "bytes=6-2", 3)
 	checkState(t, p, 3, api.Going)
 	next(t, p, 1, x(0, 4))
+
 	reply(t, p, 1, 8, 3, 0, "xyz")
 	checkHead(t, p, 3, api.Head{Status: 200, Tag: 8, Total: 3, Len: 3})
+
 	take(t, p, 3, 9, "xyz")
 	ask(t, p, 1, "", 4)
-	checkHead(t, p, 4, api.Head{Status: 200, Tag: 8, Total: 3, Len: 3})
+	take(t, p, 4, 9, "xyz")
 
 	ask(t, p, 2, "", 5)
-	next(t, p, 0, api.Fetch{Path: 1, Tag: 8, Total: 3, Len: 3}) // the example has it in the cache
-	next(t, p, 1, anyOf(2, 4))
-	fail(t, p, 1)
-	next(t, p, 1, anyOf(2, 4))
-	fail(t, p, 1)
+	next(t, p, 0, anyOf(2, 4))
+	fail(t, p, 0)
+	next(t, p, 0, anyOf(2, 4))
+	fail(t, p, 0)
 	checkHead(t, p, 5, api.Head{Status: 502})
 }

@@ -14,6 +14,7 @@ type Proxy struct {
 	transfers []transfer
 	busy      [api.MaxMirrors]bool
 	errands   [api.MaxMirrors]errand
+	cache     cache
 }
 
 // New makes a proxy (P3).
@@ -21,7 +22,7 @@ func New(s api.Settings) (*Proxy, api.Errno) {
 	if !fair(s) {
 		return nil, api.ErrSet
 	}
-	return &Proxy{settings: s}, api.OK
+	return &Proxy{settings: s, cache: cache{room: s.Cache}}, api.OK
 }
 
 func fair(s api.Settings) bool {
@@ -54,6 +55,7 @@ func (p *Proxy) Ask(path int, ranges string) (int, api.Errno) {
 		t.bind(p.latest[path])
 	}
 	p.transfers = append(p.transfers, t)
+	p.look()
 	return id, api.OK
 }
 
@@ -81,6 +83,7 @@ func (p *Proxy) Reply(mirror int, r api.Reply) api.Errno {
 		return refusal
 	}
 	p.answered(e, r)
+	p.look()
 	return api.OK
 }
 
@@ -91,6 +94,7 @@ func (p *Proxy) Fail(mirror int) api.Errno {
 		return refusal
 	}
 	p.failed(e)
+	p.look()
 	return api.OK
 }
 
@@ -132,7 +136,9 @@ func (p *Proxy) Take(id int, n int) (string, api.Errno) {
 		return "", api.ErrOpen
 	}
 	t.shown = true
-	return t.take(n, p.settings), api.OK
+	bytes := t.take(n, p.settings)
+	p.look()
+	return bytes, api.OK
 }
 
 // Held tells how many bytes a transfer holds (P5).
@@ -143,8 +149,12 @@ func (p *Proxy) Held(id int) (int, api.Errno) {
 	return p.transfers[id].heldBytes(), api.OK
 }
 
-// Used tells how many bytes are in the cache (P10): nothing goes into it yet.
-func (p *Proxy) Used() int { return 0 }
+// Used tells how many bytes are in the cache (P10).
+func (p *Proxy) Used() int {
+	return p.cache.used()
+}
 
-// Entries lists what is in the cache (P10).
-func (p *Proxy) Entries() []api.Entry { return nil }
+// Entries lists what is in the cache, the block that was used last at the end (P10).
+func (p *Proxy) Entries() []api.Entry {
+	return p.cache.entries()
+}

@@ -10,7 +10,7 @@ import (
 	"haul/api"
 )
 
-// bare has no cache: what a transfer holds came in a reply, and is fetched again where it is wanted again.
+// bare has no cache: what a transfer holds came to it in a reply, and is fetched again where it is wanted again.
 var (
 	plain = api.Settings{Mirrors: 2, Block: 4, Window: 2, Cache: 8, Tries: 2}
 	bare  = api.Settings{Mirrors: 2, Block: 4, Window: 2, Cache: 0, Tries: 2}
@@ -182,6 +182,7 @@ func refuseTake(t *testing.T, p *Proxy, id, n int, want api.Errno) {
 func copyOf(p *Proxy) Proxy {
 	c := *p
 	c.transfers = slices.Clone(p.transfers)
+	c.cache.blocks = slices.Clone(p.cache.blocks)
 	return c
 }
 

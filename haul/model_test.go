@@ -20,6 +20,8 @@ type model struct {
 	latest    map[int]version
 	transfers []*modelTransfer
 	errands   map[int]modelErrand
+	cache     []modelBlock // the one that was used last at the end
+	seen      map[string]int
 }
 
 type modelTransfer struct {
@@ -40,8 +42,15 @@ type modelErrand struct {
 	block int
 }
 
-func newModel(s api.Settings) *model {
-	return &model{s: s, latest: map[int]version{}, errands: map[int]modelErrand{}}
+// modelBlock: a block in the cache; what says which one, as an errand for it would.
+type modelBlock struct {
+	what  modelErrand
+	bytes string
+}
+
+// newModel makes a model that counts what came to pass in it, in seen.
+func newModel(s api.Settings, seen map[string]int) *model {
+	return &model{s: s, latest: map[int]version{}, errands: map[int]modelErrand{}, seen: seen}
 }
 
 func (m *model) bind(t *modelTransfer, v version) {
@@ -106,6 +115,75 @@ func (m *model) blockLen(v version, k int) int {
 	return n
 }
 
+// inCache: where this errand's block is in the cache, or -1.
+func (m *model) inCache(e modelErrand) int {
+	return slices.IndexFunc(m.cache, func(b modelBlock) bool { return b.what == e })
+}
+
+func (m *model) used() int {
+	n := 0
+	for _, b := range m.cache {
+		n += len(b.bytes)
+	}
+	return n
+}
+
+func (m *model) entries() []api.Entry {
+	var l []api.Entry
+	for _, b := range m.cache {
+		l = append(l, api.Entry{Path: b.what.path, Tag: b.what.v.tag, Total: b.what.v.total, Block: b.what.block})
+	}
+	return l
+}
+
+func (m *model) intoCache(e modelErrand, bytes string) {
+	if len(bytes) > m.s.Cache {
+		m.seen["too long for the cache"]++
+		return
+	}
+	if i := m.inCache(e); i >= 0 {
+		m.seen["the same but for its bytes"]++
+		m.cache = slices.Delete(m.cache, i, i+1)
+	}
+	m.cache = append(m.cache, modelBlock{e, bytes})
+	gone := 0
+	for m.used() > m.s.Cache {
+		m.cache = m.cache[1:]
+		gone++
+	}
+	if gone > 1 {
+		m.seen["several let go at once"]++
+	}
+}
+
+// look is what all transfers do at the end of this call.
+func (m *model) look(call string) {
+	finders := 0
+	for _, t := range m.transfers {
+		found := 0
+		for _, e := range m.wanted(t) {
+			i := m.inCache(e)
+			if i < 0 {
+				continue
+			}
+			b := m.cache[i]
+			t.holds[e.block] = b.bytes
+			m.cache = append(slices.Delete(m.cache, i, i+1), b)
+			found++
+		}
+		if found > 0 {
+			finders++
+			m.seen["found in "+call]++
+		}
+		if found > 1 {
+			m.seen["several found in "+call]++
+		}
+	}
+	if finders > 1 {
+		m.seen["several finders in "+call]++
+	}
+}
+
 func (m *model) ask(path int, ranges string) (int, api.Errno) {
 	if path < 0 || path > 3 {
 		return 0, api.ErrPath
@@ -118,6 +196,7 @@ func (m *model) ask(path int, ranges string) (int, api.Errno) {
 		m.bind(t, v)
 	}
 	m.transfers = append(m.transfers, t)
+	m.look("Ask")
 	return len(m.transfers) - 1, api.OK
 }
 
@@ -180,19 +259,25 @@ func (m *model) fail(mirror int) api.Errno {
 	e, no := m.end(mirror)
 	if no == api.OK {
 		m.fails(e)
+		m.look("Fail")
 	}
 	return no
 }
 
 func (m *model) reply(mirror int, r api.Reply) api.Errno {
 	e, no := m.end(mirror)
-	if no != api.OK {
-		return no
+	if no == api.OK {
+		m.answer(e, r)
+		m.look("Reply")
 	}
+	return no
+}
+
+func (m *model) answer(e modelErrand, r api.Reply) {
 	v := version{tag: r.Tag, total: r.Total}
 	if r.Tag < 1 || r.Tag > 99 || r.Total < 0 || r.Total > 1000 || r.Offset != e.block*m.s.Block || len(r.Body) != m.blockLen(v, e.block) {
 		m.fails(e)
-		return api.OK
+		return
 	}
 	if e.any || e.v != v {
 		m.latest[e.path] = v
@@ -206,13 +291,18 @@ func (m *model) reply(mirror int, r api.Reply) api.Errno {
 		}
 	}
 	if r.Body == "" {
-		return api.OK
+		return
 	}
-	for _, t := range m.wanting(modelErrand{path: e.path, v: v, block: e.block}) {
+	delivered := modelErrand{path: e.path, v: v, block: e.block}
+	wanting := m.wanting(delivered)
+	if len(wanting) == 0 {
+		m.seen["delivered to none"]++
+	}
+	for _, t := range wanting {
 		t.holds[e.block] = r.Body
 		t.failures = 0
 	}
-	return api.OK
+	m.intoCache(delivered, r.Body)
 }
 
 func (m *model) has(id int) bool { return id >= 0 && id < len(m.transfers) }
@@ -284,27 +374,45 @@ func (m *model) take(id, n int) (string, api.Errno) {
 			delete(t.holds, k)
 		}
 	}
+	m.look("Take")
 	return given, api.OK
 }
 
-// walk makes random calls of a proxy and of the model, and keeps what came out of each transfer.
+// walk makes random calls of a proxy and of the model, and keeps what came out of each transfer. Its mirrors are
+// honest, unless they lie: then what they send with a version is another object every time.
 type walk struct {
 	t     *testing.T
 	r     *rand.Rand
 	p     *Proxy
 	m     *model
+	lie   bool
+	has   []version         // what the mirrors have
 	last  map[int]api.Fetch // of each mirror that has an errand
 	taken map[int]string
+	came  map[string]bool // every byte of a reply, with its path, version and place
 	log   []string
 }
 
-func newWalk(t *testing.T, r *rand.Rand) *walk {
-	s := api.Settings{Mirrors: 1 + r.Intn(3), Block: 1 + r.Intn(6), Window: 1 + r.Intn(4), Cache: 0, Tries: 1 + r.Intn(4)}
+func newWalk(t *testing.T, r *rand.Rand, lie bool, seen map[string]int) *walk {
+	s := api.Settings{Mirrors: 1 + r.Intn(3), Block: 1 + r.Intn(6), Window: 1 + r.Intn(4), Cache: r.Intn(40), Tries: 1 + r.Intn(4)}
 	if r.Intn(4) == 0 {
 		s.Block = 1 + r.Intn(16)
 	}
+	switch r.Intn(8) {
+	case 0:
+		s.Cache = 0
+	case 1:
+		s.Cache = 256
+	case 2:
+		s.Cache = s.Block
+	}
+	has := versions
+	if r.Intn(2) == 0 {
+		// With two versions a path comes back to one of which there are blocks in the cache.
+		has = versions[4:6]
+	}
 	p := start(t, s)
-	return &walk{t: t, r: r, p: p, m: newModel(s), last: map[int]api.Fetch{}, taken: map[int]string{}, log: []string{fmt.Sprintf("%+v", s)}}
+	return &walk{t: t, r: r, p: p, m: newModel(s, seen), lie: lie, has: has, last: map[int]api.Fetch{}, taken: map[int]string{}, came: map[string]bool{}, log: []string{fmt.Sprintf("%+v", s)}}
 }
 
 // same compares two answers; got is the proxy's.
@@ -336,7 +444,14 @@ func (w *walk) next(mirror int) {
 	}
 }
 
+func place(path int, v version, at int, b byte) string {
+	return fmt.Sprint(path, v, at, b)
+}
+
 func (w *walk) reply(mirror int, r api.Reply) {
+	for i := range len(r.Body) {
+		w.came[place(w.last[mirror].Path, version{r.Tag, r.Total}, r.Offset+i, r.Body[i])] = true
+	}
 	w.same(fmt.Sprintf("Reply(%d, %d of %d: %d, %q)", mirror, r.Tag, r.Total, r.Offset, r.Body), w.p.Reply(mirror, r), w.m.reply(mirror, r))
 	delete(w.last, mirror)
 }
@@ -360,7 +475,7 @@ func (w *walk) take(id, n int) string {
 	return s
 }
 
-// look compares all that can be told without a change, and what P11 says of it.
+// look compares all that can be told without a change, and what P10 and P11 say of it.
 func (w *walk) look() {
 	w.t.Helper()
 	for id := range len(w.m.transfers) + 1 {
@@ -374,6 +489,17 @@ func (w *walk) look() {
 		if n != wantN || e != wantE || n > w.m.s.Window*w.m.s.Block {
 			w.stop("Held(%d) = %d, %d, want %d, %d", id, n, e, wantN, wantE)
 		}
+	}
+	l := w.p.Entries()
+	if want := w.m.entries(); !slices.Equal(l, want) {
+		w.stop("Entries() = %v, want %v", l, want)
+	}
+	n := 0
+	for _, e := range l {
+		n += w.m.blockLen(version{e.Tag, e.Total}, e.Block)
+	}
+	if u := w.p.Used(); u != n || u > w.m.s.Cache {
+		w.stop("Used() = %d, want %d", u, n)
 	}
 }
 
@@ -395,13 +521,26 @@ func honest(f api.Fetch, v version, size int) api.Reply {
 	return api.Reply{Tag: v.tag, Total: v.total, Offset: f.Offset, Body: whole[from:min(from+size, len(whole))]}
 }
 
+// answer: a sensible reply to this fetch.
+func (w *walk) answer(f api.Fetch, v version) api.Reply {
+	r := honest(f, v, w.m.s.Block)
+	if w.lie {
+		bytes := []byte(r.Body)
+		for i := range bytes {
+			bytes[i] = byte(w.r.Intn(256))
+		}
+		r.Body = string(bytes)
+	}
+	return r
+}
+
 func (w *walk) someReply(mirror int) api.Reply {
 	f := w.last[mirror]
 	v := version{f.Tag, f.Total}
 	if v.isNone() || w.r.Intn(4) == 0 {
-		v = versions[w.r.Intn(len(versions))]
+		v = w.has[w.r.Intn(len(w.has))]
 	}
-	r := honest(f, v, w.m.s.Block)
+	r := w.answer(f, v)
 	if w.r.Intn(6) > 0 {
 		return r
 	}
@@ -443,17 +582,20 @@ func (w *walk) step() {
 		w.fail(mirror)
 	case k < 30:
 		w.head(id)
+	case len(w.has) == 2 && k < 38:
+		w.next(mirror) // transfers that are taken of seldom follow the versions longer
 	default:
 		w.take(id, w.r.Intn(14)-1)
 	}
 	w.look()
 }
 
-// finish answers every errand with the version asked for, or with the latest, and takes all bytes: every transfer
-// that is not lost gets done.
+// finish answers every errand with the version asked for, or with the path's latest, and takes all bytes: every
+// transfer that is not lost gets done.
 func (w *walk) finish() {
+	withLatest := w.r.Intn(2) == 0
 	for moves := true; moves; {
-		moves = w.answerAll()
+		moves = w.answerAll(withLatest)
 		for id := range w.m.transfers {
 			if s, _ := w.p.State(id); s != api.Open && w.take(id, 1+w.r.Intn(20)) != "" {
 				moves = true
@@ -469,7 +611,7 @@ func (w *walk) finish() {
 }
 
 // answerAll sends all mirrors and lets them answer, and tells whether there was any errand.
-func (w *walk) answerAll() bool {
+func (w *walk) answerAll(withLatest bool) bool {
 	for mirror := range w.m.s.Mirrors {
 		w.next(mirror)
 	}
@@ -480,37 +622,47 @@ func (w *walk) answerAll() bool {
 			continue
 		}
 		v := version{f.Tag, f.Total}
-		if v.isNone() {
-			v = versions[len(versions)-1]
+		if withLatest {
+			v = w.m.latest[f.Path]
 		}
-		w.reply(mirror, honest(f, v, w.m.s.Block))
+		if v.isNone() {
+			v = w.has[len(w.has)-1]
+		}
+		w.reply(mirror, w.answer(f, v))
 	}
 	return any
 }
 
-// checkTaken: P11: what was taken is a beginning of what the head tells, and all of it, if the transfer is done.
+// checkTaken: P11: all bytes came in replies with the head's version, each for its own place. Of honest mirrors they
+// are a beginning of what the head tells, and all of it, if the transfer is done.
 func (w *walk) checkTaken() {
 	for id, t := range w.m.transfers {
 		h, e := w.p.Head(id)
 		if e != api.OK {
 			continue
 		}
-		want := ""
-		if h.Status != 502 {
-			want = object(t.path, version{h.Tag, h.Total})[h.From : h.From+h.Len]
-		}
+		v := version{h.Tag, h.Total}
 		got := w.taken[id]
+		for i := range len(got) {
+			if !w.came[place(t.path, v, h.From+i, got[i])] {
+				w.stop("byte %d of transfer %d came in no reply: %q", i, id, got)
+			}
+		}
 		s, _ := w.p.State(id)
-		if !strings.HasPrefix(want, got) || s == api.Done && got != want {
-			w.stop("of transfer %d, in the state %d, %q was taken, of %q", id, s, got, want)
+		if len(got) > h.Len || s == api.Done && len(got) != h.Len {
+			w.stop("of transfer %d, in the state %d, %d bytes were taken, of %d", id, s, len(got), h.Len)
+		}
+		if !w.lie && got != "" && got != object(t.path, v)[h.From:h.From+len(got)] {
+			w.stop("of transfer %d %q was taken, of %q", id, got, object(t.path, v))
 		}
 	}
 }
 
 func TestAgainstTheModel(t *testing.T) {
 	states := map[int]int{}
-	for seed := range int64(2000) {
-		w := newWalk(t, rand.New(rand.NewSource(seed)))
+	seen := map[string]int{}
+	for seed := range int64(3000) {
+		w := newWalk(t, rand.New(rand.NewSource(seed)), seed%3 == 0, seen)
 		w.ask(w.r.Intn(2), someRanges[w.r.Intn(len(someRanges))])
 		for range 30 + w.r.Intn(150) {
 			w.step()
@@ -522,8 +674,17 @@ func TestAgainstTheModel(t *testing.T) {
 			states[s]++
 		}
 	}
-	// Walks that hardly ever end well, or never badly, would test little.
-	if states[api.Done] < 4000 || states[api.Lost] < 1000 {
+	// Walks that hardly ever end well, or never badly, or hardly touch the cache, would test little.
+	if states[api.Done] < 6000 || states[api.Lost] < 1500 {
 		t.Errorf("the walks ended in these states: %v", states)
+	}
+	for _, event := range []string{
+		"delivered to none", "too long for the cache", "the same but for its bytes", "several let go at once",
+		"found in Ask", "found in Take", "found in Reply",
+		"several found in Ask", "several found in Take", "several found in Reply", "several finders in Reply",
+	} {
+		if seen[event] < 20 {
+			t.Errorf("%s: %d times in all walks", event, seen[event])
+		}
 	}
 }

@@ -77,15 +77,26 @@ func (t *transfer) window(s api.Settings) (int, int) {
 	return first, atMost(last+1, first+s.Window)
 }
 
-func (t *transfer) wants(e errand, s api.Settings) bool {
-	if t.path != e.path || t.version() != e.version {
-		return false
-	}
+// wanted lists, in rising order, the blocks that the transfer wants, each as the errand that would bring it.
+func (t *transfer) wanted(s api.Settings) []errand {
+	var list []errand
 	first, end := t.window(s)
-	if e.block < first || e.block >= end {
-		return false
+	for k := first; k < end; k++ {
+		if t.held[k%api.MaxWindow] == "" {
+			list = append(list, errand{path: t.path, version: t.version(), block: k})
+		}
 	}
-	return t.held[e.block%api.MaxWindow] == ""
+	return list
+}
+
+func (t *transfer) wants(e errand, s api.Settings) bool {
+	wanted := t.wanted(s)
+	for i := 0; i < len(wanted); i++ {
+		if wanted[i] == e {
+			return true
+		}
+	}
+	return false
 }
 
 func (t *transfer) hold(block int, bytes string) {

@@ -341,7 +341,7 @@ func takeAll(t *testing.T, p *Proxy, text string, n int) (string, []string) {
 	t.Helper()
 	all := ""
 	var answers []string
-	for range 1000 {
+	for range 3 * api.MaxTotal {
 		f, is, _ := p.Next(0)
 		if is {
 			reply(t, p, 0, f.Tag, f.Total, f.Offset, text[f.Offset:f.Offset+f.Len])
